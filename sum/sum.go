@@ -9,6 +9,7 @@ const turned = 0x82f63b78
 // steps tells, for each half of a byte, what four bits of it make of the register. (A table of whole bytes would be sixteen times as large.)
 type steps [16]uint32
 
+// The table is made once, by whoever comes first. It stands beside worked, which the sums are worked out by: no answer hangs on what the table holds.
 var (
 	once  sync.Once
 	table steps
@@ -22,8 +23,9 @@ func shift(register uint32) uint32 {
 	return register >> 1
 }
 
-// fill works the table out.
-func (s *steps) fill() {
+// worked is the steps, worked out anew.
+func worked() steps {
+	var s steps
 	for i := range len(s) {
 		register := uint32(i)
 		for range 4 {
@@ -31,19 +33,32 @@ func (s *steps) fill() {
 		}
 		s[i] = register
 	}
+	return s
+}
+
+// fill makes the table.
+func (s *steps) fill() { *s = worked() }
+
+// on goes on with a sum, by its steps.
+func (s *steps) on(sum uint32, b []byte) uint32 {
+	register := ^sum
+	for _, c := range b {
+		register ^= uint32(c)
+		for range 2 {
+			register = register>>4 ^ s[register&15]
+		}
+	}
+	return ^register
 }
 
 // On goes on with a sum.
 func On(sum uint32, b []byte) uint32 {
 	once.Do(table.fill)
-	register := ^sum
-	for _, c := range b {
-		register ^= uint32(c)
-		for range 2 {
-			register = register>>4 ^ table[register&15]
-		}
+	s := table
+	if w := worked(); s != w { // a table that isn't whole isn't gone by
+		s = w
 	}
-	return ^register
+	return s.on(sum, b)
 }
 
 // Of is the sum of bytes.

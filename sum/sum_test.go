@@ -145,3 +145,61 @@ func TestBytesStay(t *testing.T) {
 		t.Error("the sum hangs on what was asked before")
 	}
 }
+
+func TestTableIsMade(t *testing.T) {
+	for _, first := range []func(){
+		func() { Of(nil) },
+		func() { On(7, nil) },
+	} {
+		once, table = sync.Once{}, steps{}
+		first()
+		for i, got := range table {
+			want := uint32(i)
+			for range 4 {
+				unlike := want&1 == 1
+				want >>= 1
+				if unlike {
+					want ^= 0x82f63b78
+				}
+			}
+			if got != want {
+				t.Errorf("the table says %#x of %d, want %#x", got, i, want)
+			}
+		}
+	}
+}
+
+func TestTableIsMadeOnce(t *testing.T) {
+	t.Cleanup(func() { once, table = sync.Once{}, steps{} })
+	Of(nil)
+	marked := steps{1, 2, 3}
+	table = marked
+	Of([]byte("almshouse"))
+	On(7, []byte("almshouse"))
+	if table != marked {
+		t.Error("the table is made again")
+	}
+}
+
+// TestNoAnswerHangsOnTable spoils the table, as nobody can from without.
+func TestNoAnswerHangsOnTable(t *testing.T) {
+	t.Cleanup(func() { once, table = sync.Once{}, steps{} })
+	Of(nil)
+	b := mixed(100)
+	want, wantOn := Of(b), On(12345, b)
+	whole := table
+	for i := range whole {
+		table = whole
+		table[i]++
+		if got := Of(b); got != want || got != plain(b) {
+			t.Errorf("word %d spoilt: Of is %#x, want %#x", i, got, want)
+		}
+		if got := On(12345, b); got != wantOn {
+			t.Errorf("word %d spoilt: On is %#x, want %#x", i, got, wantOn)
+		}
+	}
+	table = steps{}
+	if got := Of(b); got != want {
+		t.Errorf("no table: Of is %#x, want %#x", got, want)
+	}
+}
