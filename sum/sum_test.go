@@ -38,15 +38,17 @@ func mixed(n int) []byte {
 
 // TestFirstCallers stands first, so that the table isn't made yet when they come.
 func TestFirstCallers(t *testing.T) {
+	b := mixed(many)
+	want := plain(b)
 	var answers [16]uint32
 	var all sync.WaitGroup
 	for i := range answers {
-		all.Go(func() { answers[i] = Of([]byte("123456789")) })
+		all.Go(func() { answers[i] = On(0, b) })
 	}
 	all.Wait()
 	for i, got := range answers {
-		if got != 3808858755 {
-			t.Errorf("caller %d is told %d", i, got)
+		if got != want {
+			t.Errorf("caller %d is told %#x, want %#x", i, got, want)
 		}
 	}
 }
@@ -81,7 +83,7 @@ func TestOfEachByte(t *testing.T) {
 func TestOfManyLengths(t *testing.T) {
 	all := mixed(1 << 16)
 	castagnoli := crc32.MakeTable(crc32.Castagnoli)
-	for _, n := range []int{0, 1, 2, 3, 4, 5, 7, 8, 9, 15, 16, 17, 31, 160, 255, 256, 257, 4096, 1 << 16} {
+	for _, n := range []int{0, 1, 2, 3, 4, 5, 7, 8, 9, 15, 16, 17, 31, 160, 255, 256, 257, 4095, 4096, 4097, 1 << 16} {
 		b := all[:n]
 		got := Of(b)
 		if want := plain(b); got != want {
@@ -89,6 +91,9 @@ func TestOfManyLengths(t *testing.T) {
 		}
 		if want := crc32.Checksum(b, castagnoli); got != want {
 			t.Errorf("Of %d bytes is %#x, CRC-32C is %#x", n, got, want)
+		}
+		if on := On(0, b); on != got {
+			t.Errorf("On(0, %d bytes) is %#x, Of them is %#x", n, on, got)
 		}
 	}
 }
@@ -126,9 +131,9 @@ func TestOnNothing(t *testing.T) {
 func TestOnAnySum(t *testing.T) {
 	castagnoli := crc32.MakeTable(crc32.Castagnoli)
 	for _, s := range []uint32{0, 1, 0x82f63b78, 1 << 31, 1<<32 - 1} {
-		for _, b := range [][]byte{{0}, {255}, []byte("almshouse"), mixed(33)} {
+		for _, b := range [][]byte{{0}, {255}, []byte("almshouse"), mixed(33), mixed(4095), mixed(4096), mixed(4097)} {
 			if got, want := On(s, b), crc32.Update(s, castagnoli, b); got != want {
-				t.Errorf("On(%#x, %v) is %#x, want %#x", s, b, got, want)
+				t.Errorf("On(%#x, %d bytes) is %#x, want %#x", s, len(b), got, want)
 			}
 		}
 	}
@@ -146,60 +151,77 @@ func TestBytesStay(t *testing.T) {
 	}
 }
 
+// fresh forgets the table, now and when the test is over.
+func fresh(t *testing.T) {
+	forget := func() { once, table = sync.Once{}, steps{} }
+	forget()
+	t.Cleanup(forget)
+}
+
 func TestTableIsMade(t *testing.T) {
-	for _, first := range []func(){
-		func() { Of(nil) },
-		func() { On(7, nil) },
-	} {
-		once, table = sync.Once{}, steps{}
-		first()
-		for i, got := range table {
-			want := uint32(i)
-			for range 4 {
-				unlike := want&1 == 1
-				want >>= 1
-				if unlike {
-					want ^= 0x82f63b78
-				}
+	fresh(t)
+	On(7, mixed(many))
+	for i, got := range table {
+		want := uint32(i)
+		for range 4 {
+			unlike := want&1 == 1
+			want >>= 1
+			if unlike {
+				want ^= 0x82f63b78
 			}
-			if got != want {
-				t.Errorf("the table says %#x of %d, want %#x", got, i, want)
-			}
+		}
+		if got != want {
+			t.Errorf("the table says %#x of %d, want %#x", got, i, want)
 		}
 	}
 }
 
 func TestTableIsMadeOnce(t *testing.T) {
-	t.Cleanup(func() { once, table = sync.Once{}, steps{} })
-	Of(nil)
+	fresh(t)
+	On(7, mixed(many))
 	marked := steps{1, 2, 3}
 	table = marked
-	Of([]byte("almshouse"))
-	On(7, []byte("almshouse"))
+	On(7, mixed(many))
 	if table != marked {
 		t.Error("the table is made again")
 	}
 }
 
+// TestFewBytesNeedNoTable asks whether what a page has is summed by a function alone, and all that Of tells.
+func TestFewBytesNeedNoTable(t *testing.T) {
+	fresh(t)
+	On(7, nil)
+	On(7, mixed(many-1))
+	Of(nil)
+	Of(mixed(many - 1))
+	Of(mixed(many))
+	Of(mixed(1 << 16))
+	if table != (steps{}) {
+		t.Error("the table is made where it isn't needed")
+	}
+}
+
 // TestNoAnswerHangsOnTable spoils the table, as nobody can from without.
 func TestNoAnswerHangsOnTable(t *testing.T) {
-	t.Cleanup(func() { once, table = sync.Once{}, steps{} })
-	Of(nil)
-	b := mixed(100)
-	want, wantOn := Of(b), On(12345, b)
-	whole := table
-	for i := range whole {
-		table = whole
-		table[i]++
-		if got := Of(b); got != want || got != plain(b) {
-			t.Errorf("word %d spoilt: Of is %#x, want %#x", i, got, want)
-		}
-		if got := On(12345, b); got != wantOn {
-			t.Errorf("word %d spoilt: On is %#x, want %#x", i, got, wantOn)
+	fresh(t)
+	for _, n := range []int{0, 100, many, many + 1} {
+		b := mixed(n)
+		want, wantOn := plain(b), On(12345, b)
+		On(0, mixed(many))
+		whole := table
+		for i := range whole {
+			table[i]++
+			if got := Of(b); got != want {
+				t.Errorf("word %d spoilt: Of %d bytes is %#x, want %#x", i, n, got, want)
+			}
+			if got := On(12345, b); got != wantOn {
+				t.Errorf("word %d spoilt: On with %d bytes is %#x, want %#x", i, n, got, wantOn)
+			}
+			table = whole
 		}
 	}
 	table = steps{}
-	if got := Of(b); got != want {
-		t.Errorf("no table: Of is %#x, want %#x", got, want)
+	if b := mixed(many); On(0, b) != plain(b) {
+		t.Error("without the table, On is another")
 	}
 }
